@@ -1,0 +1,1 @@
+"""Meetdesks: one machine told by desks that never see the whole."""
