@@ -1,8 +1,8 @@
 """The package keeps to the part of Python that it is to be written in.
 
 Looked at are those rules that can be told by a short look at the written code:
-files, imports, statements, names, sizes and signs (L1, L2, L6 to L8, L10, L12,
-L14, L16, L17, L27). The others are left to the reader.
+files, imports, statements, names, sizes and signs (parts of L1, L2, L4, L6 to L8, L10,
+L12, L14, L16, L17, L27). All else in them is left to the reader.
 """
 
 import ast
