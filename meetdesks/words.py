@@ -1,6 +1,6 @@
 """What is said of names and words, for all that is told by them."""
 
-from meetdesks.errors import Twice
+from meetdesks.errors import NoLetter, Twice
 
 SMALL_LETTERS = "abcdefghijklmnopqrstuvwxyz"
 FIGURES = "0123456789"
@@ -46,3 +46,10 @@ def refuse_twice(names):
         if name in seen:
             raise Twice(name)
         seen.add(name)
+
+
+def refuse_letters(letters, row):
+    """Refuse the first letter of the row, from the left, that is none of the letters."""
+    for letter in row:
+        if letter not in letters:
+            raise NoLetter(letter)
