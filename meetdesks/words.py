@@ -1,6 +1,6 @@
 """What is said of names and words, for all that is told by them."""
 
-from meetdesks.errors import NoLetter, Twice
+from meetdesks.errors import NoDesk, NoLetter, Twice
 
 SMALL_LETTERS = "abcdefghijklmnopqrstuvwxyz"
 FIGURES = "0123456789"
@@ -53,3 +53,10 @@ def refuse_letters(letters, row):
     for letter in row:
         if letter not in letters:
             raise NoLetter(letter)
+
+
+def refuse_desks(desks, group):
+    """Refuse the first desk of the group, from the left, that is none of the desks."""
+    for desk in group:
+        if desk not in desks:
+            raise NoDesk(desk)

@@ -1,8 +1,8 @@
 """The package keeps to the part of Python that it is to be written in.
 
 Looked at are those rules that can be told by a short look at the written code:
-files, imports, statements, names, sizes and signs (parts of L1, L2, L4, L6 to L8, L10,
-L12, L14, L16, L17, L27). All else in them is left to the reader.
+files, imports, statements, names, methods, sizes and signs (parts of L1, L2, L4, L6 to
+L8, L10, L12, L14 to L18, L20, L25, L27). All else in them is left to the reader.
 """
 
 import ast
@@ -30,6 +30,13 @@ BARRED_WORDS = re.compile(
     r"\b(type|typing|typing_extensions|enum|Enum|IntEnum|StrEnum|Flag|IntFlag|Generic|Protocol|ABC|ABCMeta|namedtuple"
     r"|NamedTuple|TypedDict|TYPE_CHECKING|abstractmethod)\b|dataclass|overload|contextmanager"
 )
+
+# The first list of methods of Python's own values, and what a kept set has.
+METHODS = set("""
+    append clear copy count endswith extend find get index insert isalnum isalpha isdigit islower isspace isupper items
+    join keys ljust lower lstrip partition pop remove replace reverse rfind rjust rpartition rsplit rstrip setdefault
+    split splitlines startswith strip update upper values zfill bit_length add discard sort
+""".split())
 
 PLAIN = re.compile(r"[A-Za-z][A-Za-z0-9_]*\Z")
 
@@ -98,6 +105,56 @@ def node_faults(node):
     return faults
 
 
+def local_faults(tree):
+    """Parameters and locals that are called like a class or an import of the file, or like Python's own."""
+    taken = set(dir(builtins)) | {node.name for node in tree.body if isinstance(node, ast.ClassDef)}
+    taken |= {alias.name for node in tree.body if isinstance(node, ast.ImportFrom) for alias in node.names}
+    faults = []
+    for top in tree.body:
+        if isinstance(top, (ast.FunctionDef, ast.ClassDef)):
+            for node in ast.walk(top):
+                is_local = node is not top and isinstance(node, (ast.FunctionDef, ast.arg, ast.Name))
+                if is_local and any(name in taken for name in bound_names(node)):
+                    faults.append(f"L15 line {node.lineno}")
+    return faults
+
+
+def is_faults(node):
+    if not isinstance(node, ast.Compare):
+        return []
+    sides = [node.left] + node.comparators
+    for at, sign in enumerate(node.ops):
+        plain = [isinstance(side, ast.Constant) and side.value in (None, True, False) for side in sides[at:at + 2]]
+        if isinstance(sign, (ast.Is, ast.IsNot)) and not any(plain):
+            return [f"L20 line {node.lineno}"]
+    return []
+
+
+def methods_and_values(trees):
+    """The names that classes have as methods, and those that are given as values of objects."""
+    methods, values = set(), set()
+    for tree in trees:
+        for node in ast.walk(tree):
+            if isinstance(node, ast.ClassDef):
+                methods.update(part.name for part in node.body if isinstance(part, ast.FunctionDef))
+            if isinstance(node, ast.Attribute) and isinstance(node.ctx, ast.Store):
+                values.add(node.attr)
+    return methods, values
+
+
+def attribute_faults(trees):
+    """Names that are a method here and a value there, and those that no class of the package gives."""
+    methods, values = methods_and_values(trees)
+    faults = [f"L18 {name}" for name in sorted(methods & values)]
+    for tree in trees:
+        called = {id(node.func) for node in ast.walk(tree) if isinstance(node, ast.Call)}
+        for node in ast.walk(tree):
+            given = methods | METHODS if id(node) in called else values
+            if isinstance(node, ast.Attribute) and node.attr not in given:
+                faults.append(f"L18 or L25 {node.attr}")
+    return faults
+
+
 def import_faults(node, defined):
     if not isinstance(node, ast.ImportFrom):
         return []
@@ -110,8 +167,9 @@ def import_faults(node, defined):
 def code_faults(text, defined):
     faults = text_faults(text)
     tree = ast.parse(text)
+    faults += local_faults(tree)
     for node in ast.walk(tree):
-        faults += node_faults(node)
+        faults += node_faults(node) + is_faults(node)
         faults += import_faults(node, defined)
     return faults
 
@@ -150,6 +208,9 @@ class Language(unittest.TestCase):
             with self.subTest(module):
                 self.assertEqual(code_faults(text, self.defined), [])
 
+    def test_methods_and_values(self):
+        self.assertEqual(attribute_faults([ast.parse(text) for text in self.texts.values()]), [])
+
     def test_no_two_files_draw_from_one_another(self):
         self.assertFalse(has_ring({module: drawn_from(ast.parse(text)) for module, text in self.texts.items()}))
 
@@ -161,6 +222,9 @@ class TheLookItself(unittest.TestCase):
             "def f(*xs):\n    return xs", "def f():\n    yield 1", "def f(xs):\n    return any(x for x in xs)",
             "_x = 1", "x = '\u00e9'", "x = '%'", "# of any type", "len = 3", "x = 1" + " " * 120,
             "def f():\n" + "    x = 1\n" * 40, "x = 1\n" * 401, "from meetdesks.errors import nothing",
+            "def f(map):\n    return map", "class C:\n    pass\n\n\ndef f():\n    C = 1\n",
+            "def f(x):\n    return x is f",
+            "from meetdesks.errors import Twice\n\n\ndef f(Twice):\n    return Twice\n",
         ):
             with self.subTest(text[:60]):
                 self.assertNotEqual(code_faults(text, {"meetdesks.errors": {"Twice"}}), [])
@@ -168,6 +232,13 @@ class TheLookItself(unittest.TestCase):
     def test_plain_code_is_let_by(self):
         text = "from meetdesks.errors import Twice\n\n\ndef f(x):\n    raise Twice(x)\n"
         self.assertEqual(code_faults(text, {"meetdesks.errors": {"Twice"}}), [])
+
+    def test_methods_and_values_are_seen(self):
+        given = "class C:\n    def __init__(self):\n        self.x = 1\n"
+        self.assertEqual(attribute_faults([ast.parse(given + "\n    def f(self):\n        return self.x\n")]), [])
+        for more in ("    def x(self):\n        return 1\n", "    def f(self):\n        return self.y\n",
+                     "    def f(self, y):\n        return y.encode()\n"):
+            self.assertNotEqual(attribute_faults([ast.parse(given + "\n" + more)]), [])
 
     def test_rings_are_seen(self):
         self.assertTrue(has_ring({"a": {"b"}, "b": {"c"}, "c": {"a"}}))
