@@ -6,7 +6,9 @@ under them are sets, labels are given by what the whole history tells (points 12
 """
 
 import itertools
+import unittest
 
+from meetdesks.errors import MeetError
 from meetdesks.least import least
 from meetdesks.machine import Machine
 
@@ -20,6 +22,17 @@ FULL = [("f", ("w",)), ("b", ("z", "x")), ("d", ("y",)), ("a", ("z", "y", "x", "
 STAR = [("e", ("q", "r", "s")), ("d", ("p", "s")), ("c", ("p", "r")), ("b", ("p", "q")), ("a", ("p",))]
 SQUARE = [("a", ("p", "q")), ("b", ("q", "r")), ("c", ("r", "s")), ("d", ("s", "p"))]
 HOUSES = (ALONE, PAIR, APART, LINE, RING, FULL, STAR, SQUARE)
+
+
+class RefusalCase(unittest.TestCase):
+    def assert_refused(self, kind, told, asked, *handed):
+        """Refused with this very class and these fields, and again when it is asked again."""
+        for again in range(2):
+            with self.assertRaises(MeetError, msg=repr(handed)) as taken:
+                asked(*handed)
+            self.assertIs(taken.exception.__class__, kind, repr(handed))
+            for name, value in told.items():
+                self.assertEqual(getattr(taken.exception, name), value, repr(handed))
 
 
 def desks_of(rows):
@@ -126,6 +139,11 @@ def past_of(rows, row):
     return past
 
 
+def known_letters(past, group):
+    """The letters of which the group knows, as they stand in the row."""
+    return [past.row[number - 1] for number in sorted(past.known(group)) if number]
+
+
 def plain_run(machine, row):
     state = 0
     for letter in row:
@@ -144,6 +162,7 @@ def some_quiet_machine(chance, rows, sizes=(1, 2, 2, 3), most=24):
 
 def drawn_quiet_machine(chance, rows, sizes, most):
     desks = desks_of(rows)
+    assert min(sizes) ** len(desks) <= most, "no choice of places has so few states"
     while True:
         places = {desk: chance.choice(sizes) for desk in desks}
         states = list(itertools.product(*[range(places[desk]) for desk in desks]))

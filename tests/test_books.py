@@ -5,7 +5,7 @@ import random
 import unittest
 
 from meetdesks.books import Book, met, opened, poured
-from meetdesks.errors import MeetError, NoLetter
+from meetdesks.errors import NoLetter
 from meetdesks.least import least
 from meetdesks.machine import Machine
 from meetdesks.maps import along, staying
@@ -13,8 +13,8 @@ from meetdesks.news import News, opened_news
 from meetdesks.notice import notice
 from meetdesks.sharing import Sharing
 from plain import (
-    ALONE, APART, FULL, HOUSES, LINE, PAIR, RING, STAR, Past, book_fields, desks_of, fields, letters_of, rows_up_to,
-    sets_in, shuffled, some_quiet_machine, some_row, some_sharing,
+    ALONE, APART, FULL, HOUSES, LINE, PAIR, RING, STAR, Past, RefusalCase, book_fields, desks_of, fields,
+    letters_of, rows_up_to, sets_in, shuffled, some_quiet_machine, some_row, some_sharing,
 )
 
 
@@ -120,7 +120,7 @@ class Opened(unittest.TestCase):
         self.assertEqual(book_fields(opened(sharing, machine)), kept)
 
 
-class MetBooks(unittest.TestCase):
+class MetBooks(RefusalCase):
     def assert_books(self, done):
         """The news and the maps of all sets of desks of each desk, held against the whole history."""
         past = done.past
@@ -264,10 +264,7 @@ class MetBooks(unittest.TestCase):
             sharing, machine = Sharing(list(rows)), counter(letters_of(rows), 2)
             for some in ({}, {desk: opened(sharing, machine) for desk in sharing.desks}):
                 for letter in ("strange", "", "zz"):
-                    with self.assertRaises(MeetError) as taken:
-                        met(sharing, machine, letter, some)
-                    self.assertIs(taken.exception.__class__, NoLetter)
-                    self.assertEqual(taken.exception.letter, letter)
+                    self.assert_refused(NoLetter, {"letter": letter}, met, sharing, machine, letter, some)
 
     def test_a_book_never_grows(self):
         chance = random.Random(8)

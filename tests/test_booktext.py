@@ -50,7 +50,8 @@ NO_MAP_ROWS = [
     "along p q : 0 1 2", "along q p : 0 1 2", "along q q : 0 1 2", "along r : 0 1 2", "along Q : 0 1 2",
     "along q : 0 1", "along q : 0", "along q : 0 1 2 0", "along q : 0 1 2 3", "along q : 0 1 3", "along q : 3 1 2",
     "along q : 0 64 2", "along q : 0 100 2", "along q : 00 1 2", "along q : 0 01 2", "along q : 0 1 02",
-    "along q : 0 1 002", "along q : 0 1 -1", "along q : 0 1 +1", "along q : 0 1 a", "along q : 0 1 -", "along q : 0,1,2",
+    "along q : 0 1 002", "along q : 0 1 -1", "along q : 0 1 +1", "along q : 0 1 a", "along q : 0 1 -",
+    "along q : 0,1,2",
     "along q : : 0 1 2", "along q : 0 1 2 :", "along q : 0 1 1000", "along q : 0 1 2.", "q q q a.0", "along q ; 0 1 2",
     "desks p q", "along q : 0 1 2 0 1 2",
 ]
@@ -110,7 +111,8 @@ class Shown(TextCase):
         names = ["", "a", "b", "c", "d", "a b", "a c", "a d", "b c", "b d", "c d", "a b c", "a b d", "a c d", "b c d",
                  "a b c d"]
         self.assertEqual(rows[65:], [f"along {name} : 0" if name else "along : 0" for name in names])
-        self.assertEqual([row[:5] for row in rows[1:65]], [" ".join(some) for some in itertools.product("abcd", repeat=3)])
+        triples = [" ".join(triple) for triple in itertools.product("abcd", repeat=3)]
+        self.assertEqual([row[:5] for row in rows[1:65]], triples)
 
     def test_whatever_order_the_keys_came_in(self):
         chance = random.Random(1)

@@ -2,7 +2,7 @@
 
 Looked at are those rules that can be told by a short look at the written code:
 files, imports, statements, names, methods, sizes and signs (parts of L1, L2, L4, L6 to
-L8, L10, L12, L14 to L18, L20, L25, L27). All else in them is left to the reader.
+L8, L10, L12, L14 to L18, L20, L23, L25, L27). All else in them is left to the reader.
 """
 
 import ast
@@ -130,6 +130,16 @@ def is_faults(node):
     return []
 
 
+def kept_faults(node):
+    """What is to be walked on the spot, but is kept or given back."""
+    if not isinstance(node, (ast.Assign, ast.Return)) or not isinstance(node.value, ast.Call):
+        return []
+    called = node.value.func
+    named = isinstance(called, ast.Name) and called.id in ("zip", "enumerate", "reversed", "range")
+    asked = isinstance(called, ast.Attribute) and called.attr in ("items", "keys", "values")
+    return [f"L23 line {node.lineno}"] if named or asked else []
+
+
 def methods_and_values(trees):
     """The names that classes have as methods, and those that are given as values of objects."""
     methods, values = set(), set()
@@ -169,7 +179,7 @@ def code_faults(text, defined):
     tree = ast.parse(text)
     faults += local_faults(tree)
     for node in ast.walk(tree):
-        faults += node_faults(node) + is_faults(node)
+        faults += node_faults(node) + is_faults(node) + kept_faults(node)
         faults += import_faults(node, defined)
     return faults
 
@@ -223,7 +233,8 @@ class TheLookItself(unittest.TestCase):
             "_x = 1", "x = '\u00e9'", "x = '%'", "# of any type", "len = 3", "x = 1" + " " * 120,
             "def f():\n" + "    x = 1\n" * 40, "x = 1\n" * 401, "from meetdesks.errors import nothing",
             "def f(map):\n    return map", "class C:\n    pass\n\n\ndef f():\n    C = 1\n",
-            "def f(x):\n    return x is f",
+            "def f(x):\n    return x is f", "def f(x):\n    y = enumerate(x)\n    return y",
+            "def f(x):\n    return x.items()",
             "from meetdesks.errors import Twice\n\n\ndef f(Twice):\n    return Twice\n",
         ):
             with self.subTest(text[:60]):

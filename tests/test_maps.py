@@ -4,11 +4,11 @@ import itertools
 import random
 import unittest
 
-from meetdesks.errors import MeetError, NoLetter
+from meetdesks.errors import NoLetter
 from meetdesks.least import least
 from meetdesks.machine import Machine, run
 from meetdesks.maps import along, and_then, map_of, staying
-from plain import HOUSES, fields, past_of, rows_up_to, shuffled, some_quiet_machine, some_row
+from plain import HOUSES, RefusalCase, fields, past_of, rows_up_to, shuffled, some_quiet_machine, some_row
 
 ONE = Machine(["a", "b"], [[0, 0]], [0])
 SMALL = Machine(["b", "a"], [[1, 0], [2, 0], [2, 1]], [2])
@@ -26,17 +26,13 @@ def plain_map(machine, row):
     return tuple([led(machine, state, row) for state in range(len(machine.table))])
 
 
-class MapsCase(unittest.TestCase):
+class MapsCase(RefusalCase):
     def assert_map(self, told, due):
         self.assertIs(told.__class__, tuple)
         self.assertEqual(told, due)
 
-    def assert_no_letter(self, letter, asked, *told):
-        for again in range(2):
-            with self.assertRaises(MeetError, msg=repr(told)) as taken:
-                asked(*told)
-            self.assertIs(taken.exception.__class__, NoLetter, repr(told))
-            self.assertEqual(taken.exception.letter, letter, repr(told))
+    def assert_no_letter(self, letter, asked, *handed):
+        self.assert_refused(NoLetter, {"letter": letter}, asked, *handed)
 
 
 class Staying(MapsCase):

@@ -4,13 +4,13 @@ import itertools
 import random
 import unittest
 
-from meetdesks.errors import MeetError, NoLetter
+from meetdesks.errors import NoLetter
 from meetdesks.history import known, news_at
 from meetdesks.news import News, knows, mark_for, met_news, newer, opened_news
 from meetdesks.sharing import Sharing
 from plain import (
-    ALONE, APART, FULL, HOUSES, LINE, PAIR, RING, STAR, Past, desks_of, letters_of, past_of, rows_up_to, shuffled,
-    some_row, some_sharing,
+    ALONE, APART, FULL, HOUSES, LINE, PAIR, RING, STAR, Past, RefusalCase, desks_of, letters_of, past_of,
+    rows_up_to, shuffled, some_row, some_sharing,
 )
 
 OPENING = ("", 0)
@@ -268,7 +268,7 @@ class Newer(unittest.TestCase):
         self.assertEqual({desk: done.news[desk].labels for desk in done.news}, kept)
 
 
-class MetNews(unittest.TestCase):
+class MetNews(RefusalCase):
     def assert_news(self, done):
         """All desks' news, held against the whole history."""
         for desk in done.sharing.desks:
@@ -381,10 +381,7 @@ class MetNews(unittest.TestCase):
             sharing = Sharing(list(rows))
             for letter in ("strange", "", "zz", desks_of(rows)[0] * 3):
                 for some in ({}, {desk: opened_news(sharing) for desk in sharing.desks}):
-                    with self.assertRaises(MeetError) as taken:
-                        met_news(sharing, letter, some)
-                    self.assertIs(taken.exception.__class__, NoLetter)
-                    self.assertEqual(taken.exception.letter, letter)
+                    self.assert_refused(NoLetter, {"letter": letter}, met_news, sharing, letter, some)
 
 
 class Marks(unittest.TestCase):
